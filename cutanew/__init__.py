@@ -1,0 +1,1 @@
+"""Tokens, comments and stretches of a text under edits."""
