@@ -1,7 +1,9 @@
 """An object that holds a text, and the answers to calls on it."""
 
 from cutanew.closely import written_closely
-from cutanew.stretches import cut_anew, cut_whole
+from cutanew.lines import line_and_column, place_at
+from cutanew.same import first_difference
+from cutanew.stretches import cut_anew, cut_whole, ends_of, kind_and_number, token_count, total_size
 from cutanew.things import things_of
 
 LOAD = 0
@@ -11,11 +13,18 @@ TEXT = 3
 TOKENS = 4
 TOKEN = 5
 LEADS = 6
+BEHIND = 7
+STRETCHES = 8
+STRETCH = 9
+PLACE = 10
+OFFSET = 11
+SAME = 12
 SPACED = 13
 
 TOO_LONG = -1
 NO_PLACE = -2
-NO_TOKEN = -3
+NO_SUCH = -3
+NONE_BEHIND = -4
 TOO_MANY = -8
 NO_EDIT = -9
 
@@ -40,8 +49,7 @@ class Held:
             return [TOO_LONG]
         self.now = cut_whole(row)
         self.before = []
-        tokens = sum([stretch.tokens for stretch in self.now.stretches])
-        return [len(self.now.stretches), tokens]
+        return [len(self.now.stretches), token_count(self.now.stretches)]
 
     def edit(self, a, b, row):
         size = len(self.now.text)
@@ -72,7 +80,7 @@ class Held:
     def tell_token(self, i):
         tokens = things_of(self.now).tokens
         if i < 0 or i >= len(tokens):
-            return [NO_TOKEN]
+            return [NO_SUCH]
         token = tokens[i]
         behind = 0 if token.behind is None else 1
         return [token.kind, token.begin, token.gap, len(token.leading), behind] + token.row
@@ -80,7 +88,7 @@ class Held:
     def tell_leads(self, i):
         things = things_of(self.now)
         if i < 0 or i > len(things.tokens):
-            return [NO_TOKEN]
+            return [NO_SUCH]
         comments = things.waiting
         if i < len(things.tokens):
             comments = things.tokens[i].leading
@@ -89,6 +97,39 @@ class Held:
             told.append(comment.gap)
             told.extend(counted(comment.row))
         return told
+
+    def tell_behind(self, i):
+        tokens = things_of(self.now).tokens
+        if i < 0 or i >= len(tokens):
+            return [NO_SUCH]
+        if tokens[i].behind is None:
+            return [NONE_BEHIND]
+        return counted(tokens[i].behind.row)
+
+    def tell_stretches(self):
+        return counted(ends_of(self.now.stretches))
+
+    def tell_stretch(self, k):
+        stretches = self.now.stretches
+        if k < 0 or k >= len(stretches):
+            return [NO_SUCH]
+        before = stretches[:k]
+        return [total_size(before), stretches[k].size, token_count(before), stretches[k].tokens]
+
+    def tell_place(self, n):
+        if n < 0 or n > len(self.now.text):
+            return [NO_PLACE]
+        return list(line_and_column(self.now.text, n)) + list(kind_and_number(self.now, n))
+
+    def tell_offset(self, line, column):
+        place = place_at(self.now.text, line, column)
+        return [NO_PLACE] if place < 0 else [place]
+
+    def tell_same(self, row):
+        if len(row) > MOST_BYTES:
+            return [TOO_LONG]
+        number = first_difference(things_of(self.now), things_of(cut_whole(row)))
+        return [0] if number < 0 else [1, number]
 
     def tell_spaced(self):
         tokens = things_of(self.now).tokens
@@ -123,26 +164,51 @@ def counted(row):
     return [len(row)] + row
 
 
-def answer(held, calls):
-    number = calls.take_number()
-    if number == LOAD:
-        return held.load(calls.take_row())
-    if number == EDIT:
-        a = calls.take_number()
-        b = calls.take_number()
-        return held.edit(a, b, calls.take_row())
+def change(held, number, calls):
     if number == UNDO:
         return held.undo()
+    if number == LOAD:
+        return held.load(calls.take_row())
+    a = calls.take_number()
+    b = calls.take_number()
+    return held.edit(a, b, calls.take_row())
+
+
+def tell_of_all(held, number):
     if number == TEXT:
         return held.tell_text()
     if number == TOKENS:
         return held.tell_tokens()
+    if number == STRETCHES:
+        return held.tell_stretches()
+    return held.tell_spaced()
+
+
+def tell_of_one(held, number, which):
     if number == TOKEN:
-        return held.tell_token(calls.take_number())
+        return held.tell_token(which)
     if number == LEADS:
-        return held.tell_leads(calls.take_number())
-    if number == SPACED:
-        return held.tell_spaced()
+        return held.tell_leads(which)
+    if number == BEHIND:
+        return held.tell_behind(which)
+    if number == STRETCH:
+        return held.tell_stretch(which)
+    return held.tell_place(which)
+
+
+def answer(held, calls):
+    number = calls.take_number()
+    if number in (LOAD, EDIT, UNDO):
+        return change(held, number, calls)
+    if number in (TEXT, TOKENS, STRETCHES, SPACED):
+        return tell_of_all(held, number)
+    if number in (TOKEN, LEADS, BEHIND, STRETCH, PLACE):
+        return tell_of_one(held, number, calls.take_number())
+    if number == OFFSET:
+        line = calls.take_number()
+        return held.tell_offset(line, calls.take_number())
+    if number == SAME:
+        return held.tell_same(calls.take_row())
     raise UnknownCall(f"no call has the number {number}")
 
 

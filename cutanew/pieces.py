@@ -8,6 +8,8 @@ NUMBER = 4
 QUOTED = 5
 SIGN = 6
 ODD = 7
+# No piece's kind: it is told in the stead of one where no byte is left.
+TEXT_END = 8
 
 LINE_END_BYTE = 10
 BLANK_BYTE = 32
@@ -49,7 +51,7 @@ class Cutter:
         if byte == LINE_END_BYTE:
             return Piece(LINE_END, 1)
         if byte == HASH_BYTE:
-            return Piece(COMMENT, comment_end(self.text, place) - place)
+            return Piece(COMMENT, rest_end(self.text, place) - place)
         if is_letter(byte):
             return Piece(WORD, word_end(self.text, place) - place)
         if is_digit(byte):
@@ -100,7 +102,8 @@ def step_within_quotes(text, place):
     return 1
 
 
-def comment_end(text, place):
+def rest_end(text, place):
+    """Where the rest of a line ends, its line end aside."""
     while goes_on(text, place):
         place += 1
     return place

@@ -1,6 +1,7 @@
 """A text parted into stretches, and what of them is cut anew behind an edit."""
 
-from cutanew.pieces import BLANK, COMMENT, LINE_END_BYTE, SEMICOLON_BYTE, SIGN
+from cutanew.lines import line_begin
+from cutanew.pieces import BLANK, COMMENT, SEMICOLON_BYTE, SIGN, TEXT_END
 from cutanew.pieces import Cutter, is_token
 
 
@@ -44,31 +45,16 @@ def cut_anew(cut, a, b, row):
 
 def kept_stretches(cut, a):
     begin = line_begin(cut.text, a)
-    kept = []
-    place = 0
-    for stretch in cut.stretches:
-        place += stretch.size
-        # The tail never ends before a line's begin, so it is never kept.
-        if place >= begin:
-            break
-        kept.append(stretch)
-    return kept
-
-
-def line_begin(text, place):
-    while place > 0 and text[place - 1] != LINE_END_BYTE:
-        place -= 1
-    return place
+    # The tail never ends before a line's begin, so it is never kept.
+    return [stretch for stretch, end in zip(cut.stretches, ends_of(cut.stretches)) if end < begin]
 
 
 def known_ends(cut, b, longer):
     """Where stretches behind b end once the text is longer by so much; with each, how many there were up to it."""
     known = {}
-    place = 0
-    for number, stretch in enumerate(cut.stretches):
-        place += stretch.size
-        if stretch.closed and place >= b:
-            known[place + longer] = number + 1
+    for number, end in enumerate(ends_of(cut.stretches)):
+        if cut.stretches[number].closed and end >= b:
+            known[end + longer] = number + 1
     return known
 
 
@@ -111,3 +97,30 @@ def comment_behind(cutter, place):
 
 def total_size(stretches):
     return sum([stretch.size for stretch in stretches])
+
+
+def ends_of(stretches):
+    ends = []
+    place = 0
+    for stretch in stretches:
+        place += stretch.size
+        ends.append(place)
+    return ends
+
+
+def token_count(stretches):
+    return sum([stretch.tokens for stretch in stretches])
+
+
+def kind_and_number(cut, place):
+    """Of the piece that has the byte right behind a place: its kind, and its number among the tokens or -1."""
+    end = 0
+    number = 0
+    for stretch in cut.stretches:
+        for piece in stretch.pieces:
+            end += piece.size
+            if place < end:
+                return (piece.kind, number if is_token(piece.kind) else -1)
+            if is_token(piece.kind):
+                number += 1
+    return (TEXT_END, -1)

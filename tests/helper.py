@@ -1,5 +1,6 @@
 """Builds calls, takes answers apart, and holds a second, plain reading of the document to compare with."""
 
+import itertools
 import re
 
 from cutanew.held import answers
@@ -42,6 +43,30 @@ def leads(i):
     return [6, i]
 
 
+def behind(i):
+    return [7, i]
+
+
+def stretches():
+    return [8]
+
+
+def stretch(k):
+    return [9, k]
+
+
+def place(n):
+    return [10, n]
+
+
+def offset(line, column):
+    return [11, line, column]
+
+
+def same(text):
+    return [12, len(row(text))] + row(text)
+
+
 def spaced():
     return [13]
 
@@ -63,14 +88,14 @@ def apart(given):
     if type(given) is not list or any(type(number) is not int for number in given):
         raise AssertionError("not a list of whole numbers")
     parts = []
-    place = 0
-    while place < len(given):
-        size = given[place]
-        part = given[place + 1:place + 1 + size]
+    begin = 0
+    while begin < len(given):
+        size = given[begin]
+        part = given[begin + 1:begin + 1 + size]
         if size < 1 or len(part) != size:
             raise AssertionError("a count is wrong")
         parts.append(part)
-        place += 1 + size
+        begin += 1 + size
     return parts
 
 
@@ -86,17 +111,17 @@ def token_list(text):
     triples = [given[k:k + 3] for k in range(1, len(given), 3)]
     if len(triples) != given[0]:
         raise AssertionError("the count of tokens is wrong")
-    return [(kind, whole[place:place + size].decode("latin-1")) for kind, place, size in triples]
+    return [(kind, whole[begin:begin + size].decode("latin-1")) for kind, begin, size in triples]
 
 
 def lead_list(given):
     """An answer of leads, taken apart: pairs of a gap and a text."""
     pairs = []
-    place = 1
-    while place < len(given):
-        size = given[place + 1]
-        pairs.append((given[place], bytes(given[place + 2:place + 2 + size]).decode("latin-1")))
-        place += 2 + size
+    begin = 1
+    while begin < len(given):
+        size = given[begin + 1]
+        pairs.append((given[begin], bytes(given[begin + 2:begin + 2 + size]).decode("latin-1")))
+        begin += 2 + size
     if len(pairs) != given[0]:
         raise AssertionError("the count of comments is wrong")
     return pairs
@@ -118,11 +143,55 @@ def plain_pieces(whole):
 def plain_ends(whole):
     """Where the stretches end, the tail not among them."""
     ends = []
-    for kind, place, part in plain_pieces(whole):
+    for kind, begin, part in plain_pieces(whole):
         if kind == 6 and part == b";":
-            behind = re.compile(rb" *#[^\n]*").match(whole, place + 1)
-            ends.append(behind.end() if behind else place + 1)
+            comment = re.compile(rb" *#[^\n]*").match(whole, begin + 1)
+            ends.append(comment.end() if comment else begin + 1)
     return ends
+
+
+def plain_stretches(whole):
+    """Of each stretch what the call tells."""
+    ends = plain_ends(whole) + [len(whole)]
+    begins = [begin for kind, begin, _ in plain_pieces(whole) if kind >= 3]
+    return [
+        [a, b - a, sum(begin < a for begin in begins), sum(a <= begin < b for begin in begins)]
+        for a, b in zip([0] + ends, ends)
+    ]
+
+
+def plain_places(whole):
+    """Of each place what the call tells."""
+    told_of = []
+    number = -1
+    for kind, begin, part in plain_pieces(whole):
+        number += kind >= 3
+        for n in range(begin, begin + len(part)):
+            told_of.append(plain_line(whole, n) + [kind, number if kind >= 3 else -1])
+    return told_of + [plain_line(whole, len(whole)) + [8, -1]]
+
+
+def plain_line(whole, n):
+    parts = whole[:n].split(b"\n")
+    return [len(parts) - 1, len(parts[-1])]
+
+
+def plain_same(one, other):
+    """What same tells of two texts."""
+    found_one, tail_one = plain_things(one)
+    found_other, tail_other = plain_things(other)
+    rows_one = [plain_counts(found) for found in found_one]
+    rows_other = [plain_counts(found) for found in found_other]
+    for number, (row_one, row_other) in enumerate(itertools.zip_longest(rows_one, rows_other)):
+        if row_one != row_other:
+            return [1, number]
+    if [part for _, part in tail_one] != [part for _, part in tail_other]:
+        return [1, len(rows_one)]
+    return [0]
+
+
+def plain_counts(found):
+    return found["kind"], found["part"], [part for _, part in found["leads"]], found["behind"]
 
 
 def plain_edit(whole, a, b, part):
@@ -145,18 +214,18 @@ def plain_things(whole):
     found = []
     waiting = []
     things = [piece for piece in plain_pieces(whole) if piece[0] >= 2]
-    for number, (kind, place, part) in enumerate(things):
+    for number, (kind, begin, part) in enumerate(things):
         gap, near = 0, False
         if number:
-            kind_before, place_before, part_before = things[number - 1]
-            lines = whole.count(b"\n", place_before + len(part_before), place)
+            kind_before, begin_before, part_before = things[number - 1]
+            lines = whole.count(b"\n", begin_before + len(part_before), begin)
             gap = int(lines >= 2)
             near = lines == 0 and kind_before >= 3
         if kind >= 3:
-            found.append({"kind": kind, "place": place, "part": part, "gap": gap, "leads": waiting, "behind": 0})
+            found.append({"kind": kind, "place": begin, "part": part, "gap": gap, "leads": waiting, "behind": None})
             waiting = []
         elif near:
-            found[-1]["behind"] = 1
+            found[-1]["behind"] = part.rstrip(b" ")
         else:
             waiting.append((gap, part.rstrip(b" ").decode("latin-1")))
     return found, waiting

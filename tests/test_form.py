@@ -85,6 +85,29 @@ class Form(unittest.TestCase):
                 self.assertEqual(node.level, 0, name)
                 self.assertTrue(node.module.startswith("cutanew."), name)
 
+    def test_no_two_files_draw_from_one_another(self):
+        drawn = {
+            name[:-3]: {node.module.split(".")[1] for node in ast.walk(tree) if isinstance(node, ast.ImportFrom)}
+            for name, tree in trees()
+        }
+        while drawn:
+            free = [name for name in drawn if not drawn[name] & set(drawn)]
+            self.assertNotEqual(free, [], drawn)
+            for name in free:
+                drawn.pop(name)
+
+    def test_locals_are_not_called_like_classes_or_imports(self):
+        for name, tree in trees():
+            taken = {node.name for node in tree.body if isinstance(node, ast.ClassDef)}
+            for node in tree.body:
+                if isinstance(node, ast.ImportFrom):
+                    taken |= {part.name for part in node.names}
+            for node in ast.walk(tree):
+                if isinstance(node, ast.arg):
+                    self.assertNotIn(node.arg, taken, name)
+                if isinstance(node, ast.Name) and isinstance(node.ctx, ast.Store):
+                    self.assertNotIn(node.id, taken, name)
+
     def test_names(self):
         for name, node in nodes():
             if isinstance(node, ast.Name):

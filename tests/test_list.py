@@ -6,8 +6,11 @@ import io
 import sys
 import unittest
 
-from cutanew.held import answers
-from helper import apart, edit, last, leads, load, row, spaced, text, token, told, tokens, undo
+from cutanew.held import UnknownCall, answers
+from helper import (
+    apart, behind, edit, leads, load, offset, place, row, same, spaced, stretch, stretches, text, token, told, tokens,
+    undo,
+)
 
 
 class Fixed(list):
@@ -21,8 +24,9 @@ class Fixed(list):
 
 
 MANY = [
-    load("a; # c\nb"), edit(0, 1, '"x"'), text(), tokens(), token(0), leads(1), spaced(), undo(), undo(),
-    edit(9, 2, "q"), load("b" * 4001), text(), leads(9),
+    load("a; # c\nb"), edit(0, 1, '"x"'), text(), tokens(), token(0), leads(1), behind(1), stretches(), stretch(1),
+    place(9), offset(1, 0), same('"x";b'), spaced(), undo(), undo(), edit(9, 2, "q"), load("b" * 4001), text(),
+    leads(9), behind(0), behind(9), stretch(2), place(9), offset(1, 2), same("b" * 4001), same("a;# c\nb"),
 ]
 
 
@@ -39,8 +43,20 @@ class Lists(unittest.TestCase):
     def test_several_calls(self):
         self.assertEqual(told(*MANY), [
             [2, 3], [2, 8], [10] + row('"x"; # c\nb'), [3, 5, 0, 3, 6, 3, 1, 3, 9, 1], [5, 0, 0, 0, 0] + row('"x"'),
-            [0], [5] + row('"x";b'), [0], [-9], [-2], [-1], [8] + row("a; # c\nb"), [-3],
+            [0], [3] + row("# c"), [2, 8, 10], [8, 2, 2, 1], [1, 0, 3, 2], [9], [1, 1], [5] + row('"x";b'),
+            [0], [-9], [-2], [-1], [8] + row("a; # c\nb"), [-3], [-4], [-3], [-3], [-2], [-2], [-1], [0],
         ])
+
+    def test_all_calls_are_among_them(self):
+        self.assertEqual({call[0] for call in MANY}, set(range(14)))
+
+    def test_a_number_of_no_call(self):
+        for number in (-1, 14):
+            self.assertRaises(UnknownCall, answers, [number])
+
+    def test_places_and_offsets_stand_one_behind_another(self):
+        self.assertEqual(answers([0, 3, 97, 59, 10, 8, 9, 0, 10, 3, 11, 1, 0, 12, 2, 97, 59, 7, 0, 7, 2]),
+                         [2, 2, 2, 3, 2, 2, 3, 4, 0, 2, 0, 2, 4, 1, 0, 8, -1, 1, 3, 1, 0, 1, -4, 1, -3])
 
     def test_eighty_calls(self):
         given = told(load("a"), *[edit(0, 0, "b")] * 78, text())
@@ -55,7 +71,7 @@ class Lists(unittest.TestCase):
 
     def test_nothing_is_kept(self):
         first = answers([0, 1, 97, 1, 0, 0, 1, 98])
-        self.assertEqual(answers([3, 2, 4]), [1, 0, 1, -9, 1, 0])
+        self.assertEqual(answers([3, 2, 4, 8, 12, 0]), [1, 0, 1, -9, 1, 0, 2, 1, 0, 1, 0])
         self.assertEqual(answers([0, 1, 97, 1, 0, 0, 1, 98]), first)
 
     def test_what_was_given_back_is_not_used_again(self):
@@ -83,7 +99,8 @@ class Loops(unittest.TestCase):
         sys.setrecursionlimit(depth + 30)
         try:
             for whole in wholes:
-                told(load(whole), edit(1, 2, "x"), tokens(), token(0), leads(0), spaced(), undo())
+                told(load(whole), edit(1, 2, "x"), tokens(), token(0), leads(0), behind(0), stretches(), stretch(1),
+                     place(4000), offset(0, 4000), offset(4000, 0), same(whole), spaced(), undo())
         finally:
             sys.setrecursionlimit(before)
 
